@@ -1,0 +1,1 @@
+"""The price board: markers of companies on a grid of prices."""
