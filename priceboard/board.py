@@ -14,6 +14,7 @@ WAS_CLOSED = -3
 HAS_MARKER = -4
 NO_BEGINNING = -5
 TOLD_TWICE = -6
+NOTHING_TO_TAKE_BACK = -7
 WRONG_LINE = -100
 
 COMPANIES = 8
@@ -21,6 +22,7 @@ MOST_BYTES = 4000
 MOST_SALE = 10
 MOST_PAYMENT = 1000000000
 MOST_MOVES = 60
+MOST_SHARES = 1000000
 
 
 class Reader:
@@ -62,6 +64,10 @@ def price_of(game, company):
 
 def are_moves(numbers):
     return len(numbers) <= MOST_MOVES and all([number in MOVES for number in numbers])
+
+
+def are_shares(numbers):
+    return len(numbers) == COMPANIES and all([0 <= number <= MOST_SHARES for number in numbers])
 
 
 def send_marker(game, company, moves):
@@ -176,6 +182,81 @@ def tell_order(game, reader):
     return with_count(game.markers.order(game.grid))
 
 
+def tell_stack(game, reader):
+    place = reader.take_place()
+    if not game.grid.has(place):
+        return [NO_SUCH]
+    return with_count(game.markers.stack(place))
+
+
+def tell_closed(game, reader):
+    return with_count(game.markers.closed)
+
+
+def tell_ended(game, reader):
+    return [1 if game.markers.ended else 0]
+
+
+def tell_reach(game, reader):
+    place = reader.take_place()
+    moves = reader.take_list()
+    if not game.grid.has(place):
+        return [NO_SUCH]
+    if not are_moves(moves):
+        return [OUT_OF_RANGE]
+    return list(game.grid.walk(place, moves))
+
+
+def tell_same(game, reader):
+    one = reader.take_list()
+    two = reader.take_list()
+    if not are_moves(one) or not are_moves(two):
+        return [OUT_OF_RANGE]
+    for place in game.grid.all_places():
+        if game.grid.walk(place, one) != game.grid.walk(place, two):
+            return [0]
+    return [1]
+
+
+def tell_steps(game, reader):
+    start = reader.take_place()
+    goal = reader.take_place()
+    if not game.grid.has(start) or not game.grid.has(goal):
+        return [NO_SUCH]
+    count = game.grid.least_moves(start, goal)
+    return [0] if count is None else [1, count]
+
+
+def undo(game, reader):
+    if not game.past:
+        return [NOTHING_TO_TAKE_BACK]
+    game.take_back()
+    return [len(game.past)]
+
+
+def tell_worth(game, reader):
+    shares = reader.take_list()
+    if not are_shares(shares):
+        return [OUT_OF_RANGE]
+    # Companies without a marker are worth 0, whatever their number in the list.
+    return [sum([price_of(game, company) * shares[company - 1] for company in game.markers.places])]
+
+
+def tell_first(game, reader):
+    one = reader.take_number()
+    two = reader.take_number()
+    if not has_marker(game, one) or not has_marker(game, two):
+        return [NO_SUCH]
+    acting = game.markers.order(game.grid)
+    return [1 if acting.index(one) < acting.index(two) else 0]
+
+
+def tell_size(game, reader):
+    rows = game.grid.rows
+    cells = len(game.grid.all_places())
+    return [len(rows), len(rows[0]), cells, len(game.markers.places), len(game.past)]
+
+
 # Each call stands at its number.
 CALLS = (
     load,
@@ -189,6 +270,16 @@ CALLS = (
     tell_price,
     tell_place,
     tell_order,
+    tell_stack,
+    tell_closed,
+    tell_ended,
+    tell_reach,
+    tell_same,
+    tell_steps,
+    undo,
+    tell_worth,
+    tell_first,
+    tell_size,
 )
 
 

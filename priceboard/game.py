@@ -23,3 +23,6 @@ class Game:
         self.past.append(self.markers.copied())
         if len(self.past) > MOST_CHANGES:
             self.past.pop(0)
+
+    def take_back(self):
+        self.markers = self.past.pop()

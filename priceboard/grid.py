@@ -26,6 +26,12 @@ class Grid:
         column = place[1]
         return 0 <= row < len(self.rows) and 0 <= column < len(self.rows[row])
 
+    def all_places(self):
+        places = []
+        for row in range(len(self.rows)):
+            places.extend([(row, column) for column in range(len(self.rows[row]))])
+        return places
+
     def price(self, place):
         return self.rows[place[0]][place[1]][0]
 
@@ -50,3 +56,26 @@ class Grid:
                 return here
             here = self.step(here, move)
         return here
+
+    def beyond(self, edge, reached):
+        fresh = []
+        for place in edge:
+            for move in MOVES:
+                # A walk of one move, not a step, for out of a cell that closes no move leads.
+                goal = self.walk(place, [move])
+                if goal not in reached:
+                    reached[goal] = True
+                    fresh.append(goal)
+        return fresh
+
+    def least_moves(self, start, goal):
+        # None stands for no way. The edge holds the places that are reached by count moves and by no fewer.
+        reached = {start: True}
+        edge = [start]
+        count = 0
+        while edge:
+            if goal in edge:
+                return count
+            edge = self.beyond(edge, reached)
+            count += 1
+        return None

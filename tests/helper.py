@@ -3,6 +3,12 @@
 from priceboard.board import answers
 
 FAR = 10 ** 18
+NO_COMPANIES = (0, -1, 9, -8, 10, FAR, -FAR)
+
+UP = 1
+RIGHT = 2
+DOWN = 3
+LEFT = 4
 
 
 def load(text):
@@ -48,6 +54,46 @@ def place(company):
 
 def order():
     return [10]
+
+
+def stack(row, column):
+    return [11, row, column]
+
+
+def closed():
+    return [12]
+
+
+def ended():
+    return [13]
+
+
+def reach(row, column, *numbers):
+    return [14, row, column, len(numbers)] + list(numbers)
+
+
+def same(one, two):
+    return [15, len(one)] + list(one) + [len(two)] + list(two)
+
+
+def steps(row, column, goal_row, goal_column):
+    return [16, row, column, goal_row, goal_column]
+
+
+def undo():
+    return [17]
+
+
+def worth(*numbers):
+    return [18, len(numbers)] + list(numbers)
+
+
+def first(one, two):
+    return [19, one, two]
+
+
+def size():
+    return [20]
 
 
 def part(answered):

@@ -2,33 +2,14 @@
 
 import unittest
 
-from priceboard.board import play
-from priceboard.game import Game
-from tests.helper import FAR, ask, begin, cell, counted, last, load, moves, order, pay, place, price, print_board
-from tests.helper import sell, soldout
-
-UP = 1
-RIGHT = 2
-DOWN = 3
-LEFT = 4
+from tests.helper import DOWN, FAR, LEFT, NO_COMPANIES, RIGHT, UP, ask, begin, cell, closed, counted, last, load
+from tests.helper import moves, order, pay, place, price, print_board, sell, soldout
 
 # The rows get shorter, so that the lower right corner has steps.
 STEPS = load("50b 60b 70b 80b\n40b 50b 60b\n30b 40b\n20b\n")
 # Cells that close lie below, above, to the right and in between.
 CLOSING = load("50c 60b 70c 80\n40b 50b 60\n30b 40b\n20ce 30\n")
-ENDING = load("50b 60e 70b 80ef\n40b 50be 60\n30ce 40\n")
 CORNERS = ((0, 0), (0, 3), (3, 0))
-NO_COMPANIES = (0, -1, 9, -8, 10, FAR, -FAR)
-
-
-def joined(*calls):
-    return [number for call in calls for number in call]
-
-
-def game_after(*calls):
-    game = Game()
-    play(game, joined(*calls))
-    return game
 
 
 class TestBegin(unittest.TestCase):
@@ -77,9 +58,6 @@ class TestBegin(unittest.TestCase):
         self.assertEqual(last(*closed, begin(1, 0, 3)), [-3])
         self.assertEqual(last(*closed, begin(2, 0, 3)), [-4])
         self.assertEqual(last(*closed, begin(3, 0, 3)), [-5])
-
-    def test_ends_nothing(self):
-        self.assertFalse(game_after(ENDING, begin(1, 1, 1)).markers.ended)
 
 
 class TestSell(unittest.TestCase):
@@ -198,9 +176,9 @@ class TestSoldout(unittest.TestCase):
         self.assertEqual(answered[5:], [[2], [4, 4, 2, 3, 1]])
 
     def test_closed_in_the_order_of_acting(self):
-        game = game_after(load("70c 80c 90\n40b 50b 60b\n"), begin(1, 1, 0), begin(2, 1, 1), begin(3, 1, 2), soldout(1, 2, 3))
-        self.assertEqual(game.markers.closed, [2, 1])
-        self.assertEqual(game.markers.places, {3: (0, 2)})
+        begun = (load("70c 80c 90\n40b 50b 60b\n"), begin(1, 1, 0), begin(2, 1, 1), begin(3, 1, 2))
+        answered = ask(*begun, soldout(1, 2, 3), closed(), order(), place(3))
+        self.assertEqual(answered[4:], [[3], [2, 2, 1], [1, 3], [0, 2, 0]])
 
     def test_answers_how_many_though_some_are_closed(self):
         answered = ask(CLOSING, begin(1, 1, 0), begin(2, 1, 1), soldout(2, 1), order(), soldout(2, 1))
@@ -266,7 +244,8 @@ class TestMoves(unittest.TestCase):
 
     def test_no_such_move(self):
         for number in (0, 5, -1, -3, 6, FAR, -FAR):
-            answered = ask(STEPS, begin(1, 1, 1), moves(1, number), moves(1, UP, number), moves(1, number, UP), place(1))
+            rows = (moves(1, number), moves(1, UP, number), moves(1, number, UP))
+            answered = ask(STEPS, begin(1, 1, 1), *rows, place(1))
             self.assertEqual(answered[2:], [[-2], [-2], [-2], [1, 1, 0]])
 
     def test_no_marker(self):
@@ -284,9 +263,8 @@ class TestMoves(unittest.TestCase):
 
     def test_closed_one_after_another(self):
         begun = (CLOSING, begin(3, 1, 0), begin(1, 0, 1), begin(2, 1, 0))
-        game = game_after(*begun, moves(1, LEFT), moves(3, UP), sell(2, 10))
-        self.assertEqual(game.markers.closed, [1, 3, 2])
-        self.assertEqual(game.markers.places, {})
+        answered = ask(*begun, moves(1, LEFT), moves(3, UP), sell(2, 10), closed(), order())
+        self.assertEqual(answered[4:], [[0], [0], [0], [3, 1, 3, 2], [0]])
 
     def test_back_in_its_cell_it_keeps_its_place(self):
         begun = (STEPS, begin(1, 1, 1), begin(2, 1, 1), begin(3, 1, 1))
@@ -308,40 +286,6 @@ class TestMoves(unittest.TestCase):
         begun = (STEPS, begin(1, 3, 0), begin(2, 2, 0), begin(3, 2, 0))
         answered = ask(*begun, moves(1, UP, UP), place(1), place(2), place(3))
         self.assertEqual(answered[4:], [[40], [1, 0, 0], [2, 0, 0], [2, 0, 1]])
-
-
-class TestEnding(unittest.TestCase):
-    def check(self, ended, *calls):
-        self.assertEqual(game_after(ENDING, *calls).markers.ended, ended)
-
-    def test_not_at_the_beginning(self):
-        self.assertFalse(Game().markers.ended)
-
-    def test_who_comes_to_such_a_cell_ends_the_game(self):
-        self.check(True, begin(1, 0, 0), pay(1, 1))
-        self.check(True, begin(1, 0, 0), moves(1, RIGHT))
-        self.check(True, begin(1, 1, 1), soldout(1))
-        self.check(True, begin(1, 0, 2), moves(1, RIGHT))
-
-    def test_a_cell_that_closes_ends_too(self):
-        self.check(True, begin(1, 1, 0), sell(1, 1))
-        self.assertEqual(game_after(ENDING, begin(1, 1, 0), sell(1, 1)).markers.closed, [1])
-
-    def test_who_begins_stays_or_comes_back_ends_nothing(self):
-        self.check(False, begin(1, 1, 1), moves(1), moves(1, DOWN, UP))
-
-    def test_who_passes_through_ends_nothing(self):
-        self.check(False, begin(1, 0, 0), moves(1, RIGHT, RIGHT))
-        self.check(False, begin(1, 0, 0), pay(1, 50))
-
-    def test_it_stays_so_until_load(self):
-        self.check(True, begin(1, 0, 0), pay(1, 1), pay(1, 1), sell(1, 1))
-        self.check(True, begin(1, 0, 0), pay(1, 1), load("x"))
-        self.check(False, begin(1, 0, 0), pay(1, 1), ENDING)
-
-    def test_calls_go_on_as_before(self):
-        answered = ask(ENDING, begin(1, 0, 0), pay(1, 1), begin(2, 0, 2), pay(1, 1), sell(2, 1), order())
-        self.assertEqual(answered[2:], [[60], [70], [70], [60], [2, 1, 2]])
 
 
 class TestAsking(unittest.TestCase):
@@ -408,50 +352,6 @@ class TestOrder(unittest.TestCase):
         self.assertEqual(last(*begun, order()), [3, 3, 1, 2])
         self.assertEqual(last(*begun, moves(1, RIGHT, DOWN), order()), [3, 3, 1, 2])
         self.assertEqual(last(*begun, moves(2, RIGHT, DOWN), order()), [3, 3, 2, 1])
-
-
-class TestChanges(unittest.TestCase):
-    # A change keeps what the markers were before it; a refusal and an asking keep nothing.
-    def kept(self, *calls):
-        return len(game_after(*calls).past)
-
-    def test_each_change_is_one(self):
-        begun = (STEPS, begin(1, 0, 0))
-        self.assertEqual(self.kept(), 0)
-        self.assertEqual(self.kept(*begun), 1)
-        for call in (begin(2, 0, 0), sell(1, 1), pay(1, 1), pay(1, 0), pay(1, 99), soldout(1), moves(1, UP, RIGHT)):
-            self.assertEqual(self.kept(*begun, call), 2)
-
-    def test_a_change_that_moves_nothing_is_one(self):
-        for call in (sell(1, 1), pay(1, 0), pay(1, 1), pay(1, 100), soldout(1), soldout(), moves(1), moves(1, UP)):
-            self.assertEqual(self.kept(begin(1, 0, 0), call), 2)
-
-    def test_a_refusal_is_none(self):
-        refused = (begin(1, 0, 0), begin(9, 0, 0), sell(1, 0), sell(2, 1), pay(1, -1), pay(2, 0), soldout(2))
-        for call in refused + (soldout(1, 1), moves(1, 5), moves(2, 1), load("x"), load(" " * 4001)):
-            self.assertEqual(self.kept(begin(1, 0, 0), call), 1)
-        self.assertEqual(self.kept(load("10\n"), begin(1, 0, 0)), 0)
-
-    def test_an_asking_is_none(self):
-        for call in (print_board(), cell(0, 0), price(1), place(1), order()):
-            self.assertEqual(self.kept(begin(1, 0, 0), call), 1)
-
-    def test_load_forgets_them(self):
-        self.assertEqual(self.kept(begin(1, 0, 0), sell(1, 1), STEPS), 0)
-
-    def test_the_last_fifty_are_kept(self):
-        self.assertEqual(self.kept(begin(1, 0, 0), *[sell(1, 1)] * 49), 50)
-        self.assertEqual(self.kept(begin(1, 0, 0), *[sell(1, 1)] * 50), 50)
-        game = game_after(begin(1, 0, 0), *[sell(1, 1)] * 50)
-        self.assertEqual(game.past[0].places, {1: (0, 0)})
-
-    def test_what_is_kept_is_as_it_was_before(self):
-        begun = (ENDING, begin(1, 1, 0), begin(2, 1, 0))
-        past = game_after(*begun, sell(1, 1), moves(2, RIGHT)).past
-        self.assertEqual([list(markers.places.items()) for markers in past],
-                         [[], [(1, (1, 0))], [(1, (1, 0)), (2, (1, 0))], [(2, (1, 0))]])
-        self.assertEqual([markers.closed for markers in past], [[], [], [], [1]])
-        self.assertEqual([markers.ended for markers in past], [False, False, False, True])
 
 
 if __name__ == "__main__":
